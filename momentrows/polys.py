@@ -1,9 +1,8 @@
 """Polynomials in one variable with exact fractions as coefficients."""
 
-from math import gcd, lcm
-
 from momentrows.errors import NoDivisor, NoNumber, NoPoly
-from momentrows.ratios import Ratio, is_number, is_whole, ratio_of
+from momentrows.ratios import Ratio, is_number, is_whole, ratio_of, whole_parts
+from momentrows.whole import common_tops, first_powers, long_division, moved_tops, trimmed, value_parts
 
 # The document's limit for an exponent.
 MOST_POWER = 20
@@ -28,14 +27,10 @@ class Poly:
         if not is_number(x):
             raise NoNumber("x")
         at = ratio_of(x)
-        tops, bottom = whole_parts(self)
+        tops, bottom = whole_parts(self.coefficients)
         # All is brought over one bottom, so that only the last value has to be shortened.
-        total = 0
-        scale = 1
-        for top in tops[::-1]:
-            total = total * at.top + top * scale
-            scale = scale * at.bottom
-        return Ratio(total * at.bottom, bottom * scale)
+        total, scale = value_parts(tops, at)
+        return Ratio(total, bottom * scale)
 
     def __eq__(self, other):
         return isinstance(other, Poly) and self.coefficients == other.coefficients
@@ -110,22 +105,17 @@ class Poly:
         if not is_number(by):
             raise NoNumber("by")
         way = ratio_of(by)
-        tops, bottom = whole_parts(self)
+        tops, bottom = whole_parts(self.coefficients)
         # As a polynomial in way.bottom * x all of it stays in integers until the end.
-        scales = _first_powers(way.bottom, len(tops))
+        scales = first_powers(way.bottom, len(tops))
         turned = scales[::-1]
-        shifted = _shifted([tops[k] * turned[k] for k in range(len(tops))], way.top)
+        shifted = moved_tops([tops[k] * turned[k] for k in range(len(tops))], way.top)
         return Poly([Ratio(shifted[k] * scales[k], bottom * scales[-1]) for k in range(len(tops))])
 
 
 def common(p, q):
     """The monic Poly of the greatest degree that divides both."""
-    one = primitive(whole_parts(p)[0])
-    other = primitive(whole_parts(poly_of(q))[0])
-    while len(other) > 0:
-        rest = long_division(one, other)[1]
-        one, other = other, primitive(trimmed(rest))
-    return Poly(one).monic()
+    return Poly(common_tops(whole_parts(p.coefficients)[0], whole_parts(poly_of(q).coefficients)[0])).monic()
 
 
 def poly_of(q):
@@ -133,53 +123,6 @@ def poly_of(q):
     if isinstance(q, Poly):
         return q
     return Poly([q])
-
-
-def trimmed(numbers):
-    """The list without the zeros at its end."""
-    size = len(numbers)
-    while size > 0 and numbers[size - 1] == 0:
-        size = size - 1
-    return numbers[:size]
-
-
-def whole_parts(p):
-    """A list of integers and one bottom for all of them that together are the coefficients of p."""
-    bottom = 1
-    for number in p.coefficients:
-        bottom = lcm(bottom, number.bottom)
-    return [number.top * (bottom // number.bottom) for number in p.coefficients], bottom
-
-
-def primitive(tops):
-    """The integers divided by their greatest common divisor."""
-    shared = 0
-    for top in tops:
-        shared = gcd(shared, top)
-    return [top // shared for top in tops]
-
-
-def long_division(tops, divisor):
-    """Lists of integers, quotient and rest, and an integer scale, with scale * tops = quotient * divisor + rest.
-
-    All lists are coefficients, the constant first; the last item of the divisor is not 0.
-    """
-    lead = divisor[-1]
-    size = len(divisor) - 1
-    rest = list(tops)
-    quotient = []
-    scale = 1
-    for k in range(len(tops) - size - 1, -1, -1):
-        # Only as much of the lead is multiplied in as this step needs, which keeps the integers short.
-        shared = gcd(rest[k + size], lead)
-        up = lead // shared
-        times = rest[k + size] // shared
-        rest = [up * top for top in rest[:k + size]]
-        for j in range(size):
-            rest[k + j] = rest[k + j] - times * divisor[j]
-        quotient = [times] + [up * top for top in quotient]
-        scale = scale * up
-    return quotient, rest, scale
 
 
 def _is_operand(x):
@@ -198,8 +141,8 @@ def _coefficient(p, k):
 
 
 def _product(one, other):
-    tops, bottom = whole_parts(one)
-    factors, under = whole_parts(other)
+    tops, bottom = whole_parts(one.coefficients)
+    factors, under = whole_parts(other.coefficients)
     size = len(tops) + len(factors)
     found = [0] * size
     for k in range(len(tops)):
@@ -212,30 +155,10 @@ def _divided(p, q):
     """The quotient and the remainder."""
     if q.degree < 0:
         raise NoDivisor()
-    tops, bottom = whole_parts(p)
-    divisor, under = whole_parts(q)
+    tops, bottom = whole_parts(p.coefficients)
+    divisor, under = whole_parts(q.coefficients)
     quotient, rest, scale = long_division(tops, divisor)
     return (
         Poly([Ratio(top * under, scale * bottom) for top in quotient]),
         Poly([Ratio(top, scale * bottom) for top in rest]),
     )
-
-
-def _first_powers(base, many):
-    """The powers of the base with the exponents 0, 1, .. up to many - 1."""
-    found = []
-    last = 1
-    for _ in range(many):
-        found.append(last)
-        last = last * base
-    return found
-
-
-def _shifted(tops, by):
-    """The integer coefficients of the polynomial in x - by with these coefficients."""
-    found = list(tops)
-    last = len(found) - 1
-    for start in range(last):
-        for k in range(last - 1, start - 1, -1):
-            found[k] = found[k] - by * found[k + 1]
-    return found

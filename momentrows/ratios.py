@@ -1,6 +1,6 @@
 """Exact fractions."""
 
-from math import gcd
+from math import gcd, lcm
 
 from momentrows.errors import NoRatio
 
@@ -172,6 +172,14 @@ def ratio_of(number):
     if isinstance(number, Ratio):
         return number
     return Ratio(number)
+
+
+def whole_parts(ratios):
+    """A list of integers and one bottom for all of them that together are the Ratios."""
+    bottom = 1
+    for number in ratios:
+        bottom = lcm(bottom, number.bottom)
+    return [number.top * (bottom // number.bottom) for number in ratios], bottom
 
 
 def _sum(one, other):

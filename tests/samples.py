@@ -4,6 +4,7 @@ from fractions import Fraction
 
 from momentrows import errors
 from momentrows.errors import MeansError
+from momentrows.places import Place
 from momentrows.polys import Poly
 from momentrows.ratios import Ratio
 
@@ -82,6 +83,17 @@ def fraction(number):
 
 def poly(fractions):
     return Poly([ratio(x) for x in fractions])
+
+
+def place(low, high):
+    """The Place with these fractions, integers or Nones as its ends."""
+    return Place(None if low is None else ratio(low), None if high is None else ratio(high))
+
+
+def fractions(numbers):
+    """The numbers of a returned list as fractions of Python."""
+    assert type(numbers) is list
+    return [fraction(number) for number in numbers]
 
 
 def coefficients(p):

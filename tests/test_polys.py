@@ -6,6 +6,7 @@ from fractions import Fraction
 from momentrows.errors import NoDivisor, NoNumber, NoPoly
 from momentrows.polys import Poly, common
 from momentrows.ratios import Ratio
+from tests.oracles import plus, times, trim, value
 from tests.samples import (
     NO_INTEGERS, NO_LISTS, NO_NUMBERS, Source, check_error, coefficients, fraction, poly, ratio,
 )
@@ -13,30 +14,6 @@ from tests.samples import (
 HALF = Fraction(1, 2)
 X = Poly([0, 1])
 NUMBERS = [Fraction(0), Fraction(1), Fraction(-3), HALF, Fraction(-22, 7), Fraction(10 ** 400 - 1, 10 ** 399)]
-
-
-def trim(numbers):
-    found = [Fraction(x) for x in numbers]
-    while found and found[-1] == 0:
-        found.pop()
-    return found
-
-
-def plus(one, other):
-    size = max(len(one), len(other))
-    return trim([sum(row[k] for row in (one, other) if k < len(row)) for k in range(size)])
-
-
-def times(one, other):
-    found = [Fraction(0)] * (len(one) + len(other))
-    for k, a in enumerate(one):
-        for j, b in enumerate(other):
-            found[k + j] += a * b
-    return trim(found)
-
-
-def value(numbers, x):
-    return sum(number * Fraction(x) ** k for k, number in enumerate(numbers))
 
 
 def samples():
@@ -309,6 +286,38 @@ class Common(unittest.TestCase):
         self.assertEqual(common(p, p), p.monic())
         self.assertEqual(common(p * X, p), p.monic())
         self.assertEqual(common(-p, p * (X - 1) ** 4), p.monic())
+
+    def test_values_that_always_share_a_divisor(self):
+        """At every integer, one is a multiple of 6 and the other of 24, though they have no common root."""
+        one = self.product([(Fraction(k), 1) for k in range(3)])
+        other = self.product([(Fraction(k), 1) for k in range(3, 7)])
+        self.assertEqual(common(one, other), Poly([1]))
+        for shared in (X - 9, Poly([1, 0, 1]), Poly([7, 0, -2, 5]).monic()):
+            self.assertEqual(common(one * shared, other * shared), shared)
+            self.assertEqual(common(one * shared * 10 ** 30, other * shared * shared), shared)
+
+    def test_values_that_share_a_power_of_two(self):
+        for exponent in (30, 100, 400):
+            for shared in (X - 1, X * 3 + 5, Poly([1, 0, 1])):
+                one, other = X * shared, (X + 2 ** exponent) * shared
+                self.assertEqual(common(one, other), shared.monic())
+                self.assertEqual(common(other, one), shared.monic())
+
+    def test_leads_with_a_great_prime(self):
+        prime = 2305843009213693951
+        p = (prime * X - 1) * (X - 2)
+        self.assertEqual(common(p, (prime * X - 1) * (X + 2)), X - Ratio(1, prime))
+        self.assertEqual(common(p, prime * X * X + 1), Poly([1]))
+        self.assertEqual(common(p, (X - 2) * (X + prime - 2)), X - 2)
+        self.assertEqual(common((X - 2) * (X + prime - 2), p), X - 2)
+
+    def test_roots_of_400_digits(self):
+        source = Source(6)
+        roots = source.fractions(12, 400)
+        p = self.product((root, 1 + k % 3) for k, root in enumerate(roots))
+        wanted = self.product((root, k % 3) for k, root in enumerate(roots))
+        self.assertEqual(common(p, p.derivative()), wanted)
+        self.assertEqual(common(p, p.moved(1)), Poly([1]))
 
     def test_zero(self):
         zero = Poly([0])
