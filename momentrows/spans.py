@@ -7,7 +7,9 @@ momentrows.whole; "simple" ones have no repeated factor. None as an end means th
 from math import lcm
 
 from momentrows.ratios import Ratio, whole_parts
-from momentrows.whole import common_tops, first_powers, long_division, moved_tops, primitive, slope_of, value_parts
+from momentrows.whole import (
+    around, common_tops, first_powers, long_division, moved_tops, primitive, sign_changes, slope_of, value_parts,
+)
 
 
 def simple_part(p):
@@ -57,6 +59,11 @@ def points_between(tops, low, high):
     found[0] = _inner_span(tops, found[0])
     found[-1] = _inner_span(tops, found[-1])
     return [start for start, end in found] + [found[-1][1]]
+
+
+def grid(size):
+    """A power of 2 that is above 1 / 32 and below 1 / 8 of a size above 0."""
+    return _power_of_two(_exponent(size) - 4)
 
 
 def _power_of_two(exponent):
@@ -117,12 +124,10 @@ def _most_roots(tops, low, high):
     bottom = lcm(low.bottom, high.bottom)
     start = low.top * (bottom // low.bottom)
     size = high.top * (bottom // high.bottom) - start
-    scales = first_powers(bottom, len(tops))[::-1]
-    inner = moved_tops([tops[k] * scales[k] for k in range(len(tops))], -start)
+    inner = around(tops, start, bottom)
     sizes = first_powers(size, len(tops))
     turned = [inner[k] * sizes[k] for k in range(len(tops))][::-1]
-    signs = [top > 0 for top in moved_tops(turned, -1) if top != 0]
-    return len([k for k in range(1, len(signs)) if signs[k] != signs[k - 1]])
+    return sign_changes(moved_tops(turned, -1))
 
 
 def _split(tops, low, high):
@@ -135,7 +140,7 @@ def _split(tops, low, high):
         step = _power_of_two((_exponent(high) + _exponent(low)) // 2)
         found = step
     else:
-        step = _grid(low, high)
+        step = grid(high - low)
         found = _middle(low, high)
     # One of these must do, since there are more of them than roots.
     part = step * _power_of_two(-len(tops).bit_length())
@@ -151,15 +156,10 @@ def _exponent(number):
     return number.top.bit_length() - number.bottom.bit_length()
 
 
-def _grid(low, high):
-    """A power of 2 that is above 1 / 32 and below 1 / 8 of the distance."""
-    return _power_of_two(_exponent(high - low) - 4)
-
-
 def _middle(low, high):
     """A number that is at most 1 / 8 of the distance below the exact middle, with few bits."""
-    grid = _grid(low, high)
-    return grid * ((low + high) // (grid * 2))
+    step = grid(high - low)
+    return step * ((low + high) // (step * 2))
 
 
 def _half(tops, low, high, before):

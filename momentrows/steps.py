@@ -11,7 +11,7 @@ from momentrows.whole import primitive
 def steps(row, place):
     """The steps as tuples (k, u, p, worth), up to the first k with a worth that is not above 0."""
     return [
-        (k, u, Poly([Ratio(number, tops[-1]) for number in tops]), Ratio(top, tops[-1] * bottom))
+        (k, u, monic_poly(tops), Ratio(top, tops[-1] * bottom))
         for k, u, tops, top, bottom in climbed(row_numbers(row), place)
     ]
 
@@ -33,12 +33,10 @@ def climbed(numbers, place):
 
     The Poly of the step is tops over its last item, and its worth is top over this item and the bottom, all above 0.
     """
-    whole, bottom = whole_parts(numbers)
     ladders = []
     for u in place.all_factors():
-        factors, under = whole_parts(u.coefficients)
-        shifted = [paired(factors, whole[k:]) for k in range(len(whole) - u.degree)]
-        ladders.append((u, rungs(shifted), bottom * under))
+        ladder, scale = ladder_of(numbers, u)
+        ladders.append((u, ladder, scale))
     found = []
     for k in range(len(numbers)):
         now = []
@@ -50,6 +48,21 @@ def climbed(numbers, place):
         if any([step[3] <= 0 for step in now]):
             return found
     return found
+
+
+def ladder_of(numbers, u):
+    """The rungs of the factor u for a list of Ratios, and a scale.
+
+    The worth of a rung (tops, top) is top over the last item of tops and over the scale.
+    """
+    whole, bottom = whole_parts(numbers)
+    factors, under = whole_parts(u.coefficients)
+    return rungs([paired(factors, whole[k:]) for k in range(len(whole) - u.degree)]), bottom * under
+
+
+def monic_poly(tops):
+    """The Poly with these coefficients, divided by the last one."""
+    return Poly([Ratio(top, tops[-1]) for top in tops])
 
 
 def rungs(numbers):

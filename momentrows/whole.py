@@ -62,6 +62,18 @@ def moved_tops(tops, by):
     return found
 
 
+def around(tops, top, bottom):
+    """The polynomial in t whose value is the one of this polynomial at (top + t) / bottom, times bottom ** degree."""
+    scales = first_powers(bottom, len(tops))[::-1]
+    return moved_tops([tops[k] * scales[k] for k in range(len(tops))], -top)
+
+
+def sign_changes(tops):
+    """How often the sign changes from one coefficient to the next, without those that are 0."""
+    signs = [top > 0 for top in tops if top != 0]
+    return len([k for k in range(1, len(signs)) if signs[k] != signs[k - 1]])
+
+
 def long_division(tops, divisor):
     """Lists of integers, quotient and rest, and an integer scale, with scale * tops = quotient * divisor + rest."""
     lead = divisor[-1]

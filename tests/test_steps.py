@@ -9,44 +9,9 @@ from momentrows.ratios import Ratio
 from momentrows.rows import mean
 from momentrows.steps import kind, steps
 from tests import oracles
+from tests.families import HALF, PLACES, lots, row, samples
 from tests.oracles import row_of
 from tests.samples import Source, coefficients, fraction, place, ratio
-
-HALF = Fraction(1, 2)
-# Low and high ends, None for no end.
-PLACES = [
-    (None, None), (Fraction(0), None), (Fraction(-2), None), (Fraction(5, 3), None), (Fraction(0), Fraction(1)),
-    (Fraction(-1), Fraction(1)), (Fraction(-7, 2), Fraction(-1, 3)), (Fraction(0), Fraction(1, 10 ** 400)),
-]
-
-
-def row(numbers):
-    return [ratio(x) for x in numbers]
-
-
-def lots(low, high):
-    """Lists of points in the place: none, few and many, with the ends and without them."""
-    start = Fraction(-3) if low is None else low
-    size = Fraction(6) if high is None else high - start
-    found = [[start + size * Fraction(k, 8) for k in picks] for picks in
-             ([], [0], [8], [3], [0, 8], [1, 5], [0, 2, 7], [2, 5, 8], [0, 3, 4, 8], range(1, 7), range(9))]
-    return found
-
-
-def samples(low, high):
-    """Rows of 1 to 13 numbers, inside, at the border and out."""
-    source = Source(77)
-    found = []
-    for points in lots(low, high):
-        weights = [Fraction(source.below(9) + 1, source.below(5) + 1) for _ in points]
-        whole = row_of(points, weights, 13)
-        found += [whole[:size] for size in (1, 2, 3, 4, 6, 9, 12, 13)]
-        for at in (0, 1, 3, 6, 9, 12):
-            for change in (Fraction(-1), Fraction(1, 10 ** 9), Fraction(2)):
-                changed = list(whole)
-                changed[at] += change
-                found.append(changed)
-    return found
 
 
 def plain(found):
