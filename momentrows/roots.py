@@ -36,7 +36,7 @@ def isolated(p, *, width):
     if not is_number(width) or width <= 0:
         raise NoNumber("width")
     tops = simple_part(p)
-    return [narrowed(tops, span, width) for span in spans(tops, None, None)]
+    return [narrowed(tops, span, ratio_of(width)) for span in spans(tops, None, None)]
 
 
 def is_never_below(p, place):

@@ -45,8 +45,17 @@ def narrowed(tops, span, width):
     """An interval of at most this width around the root of the span; its ends are equal if they are the root."""
     low, high = span
     before = _sign_after(tops, low)
+    bits = 2
     while high - low > width:
-        low, high = _half(tops, low, high, before)
+        # Each time that the chord shows where the root is, it is trusted twice as far.
+        enough = _exponent(high - low) - _exponent(width) + 4
+        found = _part_by_chord(tops, low, high, before, bits if bits < enough else enough)
+        if found is None:
+            bits = max(2, bits // 2)
+            found = _half(tops, low, high, before)
+        else:
+            bits = bits * 2
+        low, high = found
     return low, high
 
 
@@ -171,6 +180,31 @@ def _half(tops, low, high, before):
     if (now > 0) == (before > 0):
         return middle, high
     return low, middle
+
+
+def _part_by_chord(tops, low, high, before, bits):
+    """The part of the span, 3 / 2 ** bits of its size, in which the chord has its root.
+
+    None if the root of the polynomial does not lie there, and the root itself twice if it is an end of the part.
+    """
+    top, under = value_parts(tops, low)
+    top_high, under_high = value_parts(tops, high)
+    if top == 0 or top_high == 0 or (top > 0) == (top_high > 0):
+        return None
+    left = abs(top) * under_high
+    at = (left << bits) // (left + abs(top_high) * under)
+    step = (high - low) * Ratio(1, 1 << bits)
+    start = low if at < 2 else low + step * (at - 1)
+    end = high if at + 2 >= 1 << bits else low + step * (at + 2)
+    first = sign_at(tops, start)
+    last = sign_at(tops, end)
+    if first == 0:
+        return start, start
+    if last == 0:
+        return end, end
+    if (first > 0) == (before > 0) and (last > 0) != (before > 0):
+        return start, end
+    return None
 
 
 def _sign_after(tops, x):

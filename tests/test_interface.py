@@ -6,6 +6,9 @@ import inspect
 import pathlib
 import unittest
 
+from momentrows.deciding import Bar, bar_of, lot_of
+from momentrows.live import Means
+from momentrows.lots import Lot, lot_at
 from momentrows.places import Place
 from momentrows.polys import Poly
 from momentrows.ratios import Ratio
@@ -33,6 +36,17 @@ METHODS = {
         "__init__": ["low", "high"], "__contains__": ["x"], "__eq__": ["other"], "is_line": [], "is_segment": [],
         "moved": ["by"], "stretched": ["by"], "all_factors": [], "factors": ["parity"],
     },
+    ("lots", "Lot"): {
+        "__init__": ["poly", "begin"], "__eq__": ["other"], "__add__": ["other"], "__mul__": ["other"], "row": ["d"],
+        "mean": ["p"], "is_in": ["place"], "has": ["x"], "weight": ["x"], "near": ["*", "width"],
+        "share": ["low", "high", "*", "width"], "moved": ["by"], "stretched": ["by"],
+    },
+    ("deciding", "Bar"): {"__init__": ["factor", "base", "other"], "product": []},
+    ("live", "Means"): {
+        "__init__": ["place"], "__iadd__": ["other"], "__getitem__": ["at"], "__setitem__": ["at", "worth"],
+        "__len__": [], "put": ["m"], "put_all": ["numbers"], "row": [], "fits": [], "kind": [], "lot": [], "undo": [],
+        "redo": [], "branch": [],
+    },
 }
 # The parameters of the functions; those behind the * are passed by name only.
 FUNCTIONS = {
@@ -51,8 +65,54 @@ FUNCTIONS = {
     ("rows", "product_row"): ["one", "other"],
     ("steps", "steps"): ["row", "place"],
     ("steps", "kind"): ["row", "place"],
+    ("lots", "lot_at"): ["points", "weights"],
+    ("deciding", "has_lot"): ["row", "place"],
+    ("deciding", "lot_of"): ["row", "place"],
+    ("deciding", "fewest"): ["row", "place"],
+    ("deciding", "check_lot"): ["row", "place", "lot"],
+    ("deciding", "check_bar"): ["row", "place", "bar"],
+    ("deciding", "bar_of"): ["row", "place"],
+    ("further", "next_fits"): ["row", "place"],
+    ("further", "longest"): ["row", "place"],
+    ("further", "all_fits"): ["row", "place"],
+    ("further", "mean_fits"): ["row", "place", "p"],
+    ("further", "shares"): ["row", "place"],
+    ("further", "row_from"): ["total", "parts", "place"],
+    ("weights", "most_at"): ["row", "place", "x"],
+    ("weights", "most_paper"): ["row", "place", "x"],
+    ("weights", "with_point"): ["row", "place", "x", "weight"],
+    ("weights", "extreme_lot"): ["row", "place", "x"],
+    ("weights", "share_fits"): ["row", "place", "x", "*", "width"],
+    ("principal", "lower_lot"): ["row", "place"],
+    ("principal", "upper_lot"): ["row", "place"],
+    ("principal", "is_shaped"): ["f", "k", "place"],
+    ("principal", "shaped_fits"): ["row", "place", "f"],
+    ("principal", "shaped_papers"): ["row", "place", "f"],
+    ("principal", "alternate"): ["one", "other"],
+    ("kin", "halved"): ["row"],
+    ("kin", "doubled"): ["row"],
+    ("kin", "centred"): ["row"],
+    ("kin", "differences"): ["row"],
+    ("texts", "row_text"): ["row"],
+    ("texts", "place_text"): ["place"],
+    ("texts", "poly_text"): ["p"],
+    ("texts", "lot_text"): ["lot"],
+    ("texts", "read_row"): ["text"],
+    ("texts", "read_place"): ["text"],
+    ("texts", "read_poly"): ["text"],
+    ("texts", "read_lot"): ["text"],
 }
 DEFINED = [("errors", name) for name in ("MeansError", *ERROR_FIELDS)] + [*METHODS, *FUNCTIONS]
+
+
+def parameters_of(function):
+    """The names of the parameters, with a * before the first that is passed by name only."""
+    found = []
+    for part in inspect.signature(function).parameters.values():
+        if part.kind is part.KEYWORD_ONLY and "*" not in found:
+            found.append("*")
+        found.append(part.name)
+    return found
 
 
 class Interface(unittest.TestCase):
@@ -69,8 +129,7 @@ class Interface(unittest.TestCase):
             owner = getattr(importlib.import_module(f"momentrows.{module}"), name)
             for method, parameters in methods.items():
                 self.assertIn(method, vars(owner), name)
-                found = list(inspect.signature(vars(owner)[method]).parameters)
-                self.assertEqual(found, ["self", *parameters], f"{name}.{method}")
+                self.assertEqual(parameters_of(vars(owner)[method]), ["self", *parameters], f"{name}.{method}")
 
     def test_read_is_static(self):
         self.assertIsInstance(vars(Ratio)["read"], staticmethod)
@@ -79,14 +138,10 @@ class Interface(unittest.TestCase):
 
     def test_parameters_of_functions(self):
         for (module, name), wanted in FUNCTIONS.items():
-            found = []
             function = getattr(importlib.import_module(f"momentrows.{module}"), name)
+            self.assertEqual(parameters_of(function), wanted, name)
             for part in inspect.signature(function).parameters.values():
-                if part.kind is part.KEYWORD_ONLY:
-                    found.append("*")
-                found.append(part.name)
                 self.assertIs(part.default, part.empty)
-            self.assertEqual(found, wanted, name)
 
     def test_the_ends_of_a_place_may_be_left_out(self):
         parts = inspect.signature(Place).parameters
@@ -99,6 +154,14 @@ class Interface(unittest.TestCase):
             self.assertLessEqual({"coefficients", "degree", "lead"}, set(vars(p)))
         for where in (Place(), Place(0), Place(0, 1), Place(0).moved(1), Place().stretched(2)):
             self.assertLessEqual({"low", "high"}, set(vars(where)))
+        for lot in (Lot(Poly([1]), []), lot_at([1, 2], [3, 4]), lot_of([1, 0, 1], Place()), lot_at([1], [2]) * 0):
+            self.assertLessEqual({"poly", "begin", "count"}, set(vars(lot)))
+        for bar in (Bar(Poly([1]), Poly([1])), bar_of([-1], Place()), bar_of([1, 0, 0, 0, 1], Place())):
+            self.assertLessEqual({"factor", "base", "other"}, set(vars(bar)))
+        self.assertIn("place", vars(Means(Place())))
+
+    def test_other_may_be_left_out_of_a_bar(self):
+        self.assertIsNone(inspect.signature(Bar).parameters["other"].default)
 
 
 if __name__ == "__main__":
