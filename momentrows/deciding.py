@@ -97,8 +97,7 @@ def bar_of(row, place):
 
 def _is_kept(numbers, bad):
     """Whether the first step with a worth not above 0 leaves the row a lot."""
-    u, p, worth = bad
-    return worth == 0 and first_miss(numbers, u * p) is None
+    return first_miss(numbers, bad[0] * bad[1]) is None
 
 
 def _lot_inside(numbers, place):

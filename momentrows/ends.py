@@ -20,7 +20,11 @@ def first_bad(numbers, place):
 
 
 def first_miss(numbers, poly):
-    """The first j for which the mean of poly * x ** j is not 0, or None."""
+    """The first j for which the mean of poly * x ** j is not 0, or None.
+
+    If poly is u * p of the first step with a worth not above 0, the row has a lot exactly if there is no such j. A
+    worth below 0 is the mean of u * p * x ** j for j the degree of p, too.
+    """
     line = whole_parts(numbers)[0]
     tops = whole_parts(poly.coefficients)[0]
     for j in range(len(line) - poly.degree):
@@ -34,10 +38,10 @@ def only_lot(numbers, place):
     bad = first_bad(numbers, place)
     if bad is None:
         return None
-    u, p, worth = bad
-    if worth < 0 or first_miss(numbers, u * p) is not None:
+    poly = bad[0] * bad[1]
+    if first_miss(numbers, poly) is not None:
         raise NoLotThere()
-    return lot_with(numbers, u * p)
+    return lot_with(numbers, poly)
 
 
 def lot_with(numbers, poly):

@@ -31,14 +31,11 @@ def longest(row, place):
     bad = first_bad(numbers, place)
     if bad is None:
         return len(numbers)
-    u, p, worth = bad
-    k = u.degree + 2 * p.degree
-    if worth < 0:
-        return k
-    miss = first_miss(numbers, u * p)
+    poly = bad[0] * bad[1]
+    miss = first_miss(numbers, poly)
     if miss is None:
         return len(numbers)
-    return miss + u.degree + p.degree
+    return miss + poly.degree
 
 
 def all_fits(row, place):

@@ -7,7 +7,7 @@ from momentrows.ratios import Ratio, is_number, is_whole, ratio_of, whole_parts
 from momentrows.rows import moved_row, paired, scaled_row
 from momentrows.spans import spans
 from momentrows.steps import rungs
-from momentrows.whole import first_powers
+from momentrows.whole import first_powers, long_division
 
 # The document's limits for the points of a lot and for the numbers of its row.
 MOST_POINTS = 8
@@ -62,8 +62,10 @@ class Lot:
     def mean(self, p):
         """The sum of weight * p(point)."""
         factors, under = whole_parts(p.coefficients)
-        line, bottom = whole_parts(first_numbers(self, len(factors)))
-        return Ratio(paired(factors, line), under * bottom)
+        # At every point p has the value of the rest that remains when it is divided by poly.
+        rest, scale = long_division(factors, whole_parts(self.poly.coefficients)[0])[1:]
+        line, bottom = whole_parts(self.begin)
+        return Ratio(paired(rest, line), scale * under * bottom)
 
     def is_in(self, place):
         """Whether all points lie in the place."""
@@ -100,9 +102,6 @@ class Lot:
             raise NoNumber("width")
         start = 0 if low is None else self.count - self._many_from(low)
         end = self.count if high is None else self.count - self._many_above(high)
-        if start == 0 and end == self.count:
-            total = self.mean(Poly([1]))
-            return total, total
         least = Ratio(0)
         most = Ratio(0)
         for found in self._near(start, end, ratio_of(width).over(MOST_POINTS)):
@@ -140,16 +139,14 @@ class Lot:
         return self._many_above(x)
 
     def _weight_parts(self):
-        """The Poly times an integer, the polynomial above and the bottom: at a point, the weight is the value of
-        above over that of the slope of the first, over the bottom."""
+        """Integer polynomials tops and above, and a bottom: tops is a multiple of poly, and at a point the weight is
+        the value of above, over that of the slope of tops, over the bottom."""
         tops = whole_parts(self.poly.coefficients)[0]
         line, bottom = whole_parts(self.begin)
         return tops, weight_tops(tops, line), bottom
 
     def _near(self, start, end, width):
         """The intervals of the points start .. end - 1 and of their weights."""
-        if start >= end:
-            return []
         tops, above, bottom = self._weight_parts()
         return [closed_in(tops, above, bottom, span, width) for span in spans(tops, None, None)[start:end]]
 
@@ -172,8 +169,6 @@ def lot_at(points, weights):
 
 def first_numbers(lot, many):
     """So many first numbers of the row of the lot."""
-    if lot.count == 0:
-        return [Ratio(0)] * many
     return continued(whole_parts(lot.poly.coefficients)[0], lot.begin, many)
 
 

@@ -32,8 +32,6 @@ def are_crossing(tops, others):
     """Whether the roots of the two lie strictly alternately, if all of them are real and different."""
     if len(tops) < len(others):
         tops, others = others, tops
-    if len(tops) - len(others) > 1:
-        return False
     if len(tops) == 1:
         return True
     rest = list(others)

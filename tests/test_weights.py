@@ -14,7 +14,9 @@ from momentrows.rows import mean
 from momentrows.steps import kind
 from momentrows.weights import extreme_lot, most_at, most_paper, share_fits, with_point
 from tests import oracles
-from tests.families import HALF, PLACES, candidates, known_lots, lots, row, samples, weights_of
+from tests.families import (
+    HALF, PLACES, candidates, known_lots, lot_of_fractions, lots, row, samples, weights_of,
+)
 from tests.oracles import row_of
 from tests.samples import NO_LISTS, NO_NUMBERS, check_error, fraction, place, ratio
 
@@ -254,8 +256,23 @@ class Extremes(unittest.TestCase):
             if kind(numbers, where)[0] == "border":
                 self.assertEqual(lot, lot_of(numbers, where))
 
-    def test_points_at_which_two_factors_give_the_bound(self):
-        """At a point of a lot of few points one factor does; for symmetrical rows two do in the middle."""
+    def test_points_of_principal_lots(self):
+        """At such a point, several factors of the place give the bound."""
+        for low, high, points, weights in border_cases():
+            size = sum(1 if x in (low, high) else 2 for x in points)
+            if high is None or size == 0:
+                continue
+            lot = lot_of_fractions(points, weights)
+            numbers = lot.row(size - 1)
+            self.assertEqual(kind(numbers, place(low, high)), ("inside",))
+            for x, w in zip(points, weights):
+                self.assertEqual(extreme_lot(numbers, place(low, high), ratio(x)), lot)
+                self.assertEqual(fraction(most_at(numbers, place(low, high), ratio(x))), w)
+                paper = most_paper(numbers, place(low, high), ratio(x))
+                self.assertEqual(mean(numbers, paper), lot.weight(ratio(x)))
+                self.assertTrue(all(paper(ratio(y)) == 0 for y in points if y != x))
+
+    def test_symmetrical_rows(self):
         flat = [Ratio(2, k + 1) if k % 2 == 0 else Ratio(0) for k in range(13)]
         for size in range(1, 14):
             for x in (0, 1, -1, Ratio(1, 3), Ratio(-1, 3)):
